@@ -2,15 +2,13 @@ package sem
 
 import (
 	"rung/api"
-	"rung/fb"
 	"rung/num"
-	"rung/types"
+	"rung/reckon"
 )
 
 // scan: one that is being done, of a program that was checked.
 type scan struct {
-	memory
-	p    api.Prog
+	*reckon.Memory
 	now  int64
 	step func() bool // counts a step; false: none may be begun any more
 }
@@ -68,15 +66,15 @@ func (s *scan) statement(x api.Stmt) end {
 
 // assign reckons the target's index ahead of what it is assigned.
 func (s *scan) assign(x api.Stmt) end {
-	cell, fault := s.cell(x.V)
+	cell, fault := s.Cell(x.V)
 	if fault != api.FaultNone {
 		return faulted(fault)
 	}
-	n, fault := s.number(x.E[0])
+	n, fault := s.Number(x.E[0])
 	if fault != api.FaultNone {
 		return faulted(fault)
 	}
-	s.numbers[cell] = n
+	s.Set(cell, n)
 	return end{}
 }
 
@@ -98,12 +96,12 @@ func (s *scan) condition(l []api.Expr) (bool, int) {
 	if len(l) == 0 {
 		return true, api.FaultNone
 	}
-	n, fault := s.number(l[0])
+	n, fault := s.Number(l[0])
 	return n != 0, fault
 }
 
 func (s *scan) caseStatement(x api.Stmt) end {
-	n, fault := s.number(x.E[0])
+	n, fault := s.Number(x.E[0])
 	if fault != api.FaultNone {
 		return faulted(fault)
 	}
@@ -128,7 +126,7 @@ func has(labels [][2]api.Expr, n int64) bool {
 func (s *scan) forLoop(x api.Stmt) end {
 	bounds := [3]int64{0, 0, 1}
 	for i, e := range x.E {
-		n, fault := s.number(e)
+		n, fault := s.Number(e)
 		if fault != api.FaultNone {
 			return faulted(fault)
 		}
@@ -136,9 +134,9 @@ func (s *scan) forLoop(x api.Stmt) end {
 	}
 	from, to, by := bounds[0], bounds[1], bounds[2]
 	least, greatest := num.Range(x.V.Kind)
-	variable := s.first(x.V.Name, "")
-	for next := from; least <= next && next <= greatest; next = s.numbers[variable] + by {
-		s.numbers[variable] = next
+	variable, _ := s.Cell(x.V) // it has no index that might fault
+	for next := from; least <= next && next <= greatest; next = s.Get(variable) + by {
+		s.Set(variable, next)
 		if !s.step() {
 			return faulted(api.FaultSteps)
 		}
@@ -190,24 +188,9 @@ func (s *scan) test(x api.Stmt) (bool, int) {
 	return s.condition(x.E)
 }
 
-// blockCall assigns the arguments one by one, so that those behind see those
-// ahead, and then what the block's step makes of its cells.
 func (s *scan) blockCall(x api.Stmt) end {
-	name := x.V.Name
-	for _, a := range x.Args {
-		n, fault := s.number(a.E)
-		if fault != api.FaultNone {
-			return faulted(fault)
-		}
-		s.numbers[s.first(name, a.Name)] = n
+	if fault := s.Call(x.V.Name, x.Args, s.now); fault != api.FaultNone {
+		return faulted(fault)
 	}
-	t, _ := types.TypeOf(s.p, name)
-	inputs, outputs := types.Pins(t.Name)
-	in := s.numbers[s.first(name, inputs[0]):][:len(inputs)]
-	out := s.numbers[s.first(name, outputs[0]):][:len(outputs)]
-	kept := s.numbers[s.first(name, "1"):][:3]
-	told, keep := fb.Step(t.Name, in, [3]int64{kept[0], kept[1], kept[2]}, out, s.now)
-	copy(out, told)
-	copy(kept, keep[:])
 	return end{}
 }

@@ -1,19 +1,19 @@
-package sem
+package reckon
 
 import (
 	"rung/api"
 	"rung/num"
 )
 
-// number tells what e, which is elaborated, is, or the fault that its first
+// Number tells what e, which is elaborated, is, or the fault that its first
 // operand from the left has, or that it has itself. All operands are reckoned,
 // whether what is made of them hangs on them or not.
-func (m memory) number(e api.Expr) (int64, int) {
+func (m *Memory) Number(e api.Expr) (int64, int) {
 	switch e.Op {
 	case api.ExLit:
 		return e.N, api.FaultNone
 	case api.ExVar:
-		cell, fault := m.cell(e)
+		cell, fault := m.Cell(e)
 		if fault != api.FaultNone {
 			return 0, fault
 		}
@@ -21,7 +21,7 @@ func (m memory) number(e api.Expr) (int64, int) {
 	}
 	var operands [3]int64
 	for i, x := range e.L {
-		n, fault := m.number(x)
+		n, fault := m.Number(x)
 		if fault != api.FaultNone {
 			return 0, fault
 		}
