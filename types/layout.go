@@ -1,6 +1,7 @@
 package types
 
 import (
+	"slices"
 	"strconv"
 
 	"rung/addr"
@@ -148,7 +149,7 @@ func (l *layout) sizeOf(t api.Type) int {
 		return t.Hi - t.Lo + 1
 	case isBlock(t):
 		in, out := pinsOf(t.Name)
-		return len(in) + len(out) + keeps
+		return in.count() + out.count() + keeps
 	}
 	return len(l.fieldsOf(t))
 }
@@ -194,7 +195,7 @@ func scalarCell(v api.Var, field string) api.Cell {
 
 func appendBlock(cells []api.Cell, block string) []api.Cell {
 	in, out := pinsOf(block)
-	for _, x := range append(in, out...) {
+	for _, x := range slices.Concat(in[:in.count()], out[:out.count()]) {
 		cells = append(cells, api.Cell{Field: x.name, Index: -1, Kind: x.kind})
 	}
 	for i := range keeps {
