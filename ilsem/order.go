@@ -4,7 +4,7 @@ import (
 	"strings"
 
 	"rung/api"
-	"rung/reckon"
+	"rung/names"
 )
 
 // What an order does.
@@ -44,7 +44,7 @@ type order struct {
 
 // maker makes orders of instructions, one behind the other.
 type maker struct {
-	names  reckon.Names
+	names  names.Names
 	labels map[string]int // by label: which order is the first behind it
 	kind   int            // the accumulator's
 	open   []order        // what the brackets that are open wait for, the innermost last
@@ -52,7 +52,7 @@ type maker struct {
 
 // ordersOf tells the orders of a checked program. A label alone is none.
 func ordersOf(p api.Prog) []order {
-	m := maker{names: reckon.NamesOf(p), labels: labelsOf(p.Code)}
+	m := maker{names: names.Of(p), labels: labelsOf(p.Code)}
 	var orders []order
 	for _, in := range p.Code {
 		if in.Op != "" {

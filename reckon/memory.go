@@ -6,6 +6,7 @@ package reckon
 import (
 	"rung/api"
 	"rung/fb"
+	"rung/names"
 	"rung/num"
 	"rung/types"
 )
@@ -13,33 +14,19 @@ import (
 // Memory: the numbers of a program's cells, and which cells its names are of.
 type Memory struct {
 	p       api.Prog
+	cells   names.Cells
 	numbers []int64
-	places  map[place]stretch
 }
-
-// place: a variable's name, and that of a field, or a pin, or none.
-type place struct{ name, field string }
-
-// stretch: the cells of a place, the first one's number, and the indices of the
-// first and the last one: an array has several.
-type stretch struct{ first, low, high int }
 
 // NewMemory takes the numbers that there are, wrapped; those that are missing
 // are 0.
 func NewMemory(p api.Prog, given []int64) *Memory {
-	cells := types.Cells(p)
-	m := &Memory{p: p, numbers: make([]int64, len(cells)), places: map[place]stretch{}}
-	for i, cell := range cells {
+	cells := names.CellsOf(p)
+	m := &Memory{p: p, cells: cells, numbers: make([]int64, len(cells.L))}
+	for i, cell := range cells.L {
 		if i < len(given) {
 			m.numbers[i] = num.Wrap(cell.Kind, given[i])
 		}
-		at := place{p.Vars[cell.Var].Name, cell.Field}
-		s, ok := m.places[at]
-		if !ok {
-			s = stretch{first: i, low: cell.Index}
-		}
-		s.high = cell.Index
-		m.places[at] = s
 	}
 	return m
 }
@@ -56,18 +43,18 @@ func (m *Memory) Set(cell int, n int64) { m.numbers[cell] = n }
 
 // Cell tells the number of the cell that a variable is: e is elaborated.
 func (m *Memory) Cell(e api.Expr) (int, int) {
-	s := m.places[place{e.Name, e.Field}]
+	s := m.cells.Of(e.Name, e.Field)
 	if len(e.L) == 0 {
-		return s.first, api.FaultNone
+		return s.First, api.FaultNone
 	}
 	index, fault := m.Number(e.L[0])
 	if fault != api.FaultNone {
 		return 0, fault
 	}
-	if index < int64(s.low) || index > int64(s.high) {
+	if index < int64(s.Low) || index > int64(s.High) {
 		return 0, api.FaultIndex
 	}
-	return s.first + int(index) - s.low, api.FaultNone
+	return s.First + int(index) - s.Low, api.FaultNone
 }
 
 // Call does a block's call. It assigns the arguments, which are elaborated, one
@@ -93,4 +80,4 @@ func (m *Memory) Call(name string, args []api.Arg, now int64) int {
 }
 
 // first tells the number of the cell of a block's pin, or of what it keeps.
-func (m *Memory) first(name, field string) int { return m.places[place{name, field}].first }
+func (m *Memory) first(name, field string) int { return m.cells.Of(name, field).First }

@@ -1,17 +1,11 @@
-package sem
+package names
 
-import (
-	"rung/api"
-	"rung/reckon"
-)
+import "rung/api"
 
-// names: a checked program's, by which its statements are elaborated.
-type names struct{ reckon.Names }
-
-// statements tells them with their expressions elaborated, once for all times
+// Statements tells them with their expressions elaborated, once for all times
 // that a loop comes by. It goes by what each kind of statement has: trees may
 // have more, which says nothing, and may be endless.
-func (n names) statements(l []api.Stmt) []api.Stmt {
+func (n Names) Statements(l []api.Stmt) []api.Stmt {
 	all := make([]api.Stmt, len(l))
 	for i, s := range l {
 		all[i] = n.statement(s)
@@ -19,7 +13,7 @@ func (n names) statements(l []api.Stmt) []api.Stmt {
 	return all
 }
 
-func (n names) statement(s api.Stmt) api.Stmt {
+func (n Names) statement(s api.Stmt) api.Stmt {
 	x := api.Stmt{Op: s.Op, V: s.V}
 	switch s.Op {
 	case api.StAssign:
@@ -33,10 +27,10 @@ func (n names) statement(s api.Stmt) api.Stmt {
 	case api.StFor:
 		x.V = n.Elab(s.V, 0)
 		x.E = n.all(s.E, x.V.Kind)
-		x.Body = n.statements(s.Body)
+		x.Body = n.Statements(s.Body)
 	case api.StWhile, api.StRepeat:
 		x.E = n.all(s.E, api.KBool)
-		x.Body = n.statements(s.Body)
+		x.Body = n.Statements(s.Body)
 	case api.StCall:
 		x.Args = n.Args(s.V.Name, s.Args)
 	}
@@ -44,10 +38,10 @@ func (n names) statement(s api.Stmt) api.Stmt {
 }
 
 // arms tells those of an IF, or of a CASE, whose labels are of that kind.
-func (n names) arms(l []api.Arm, kind int) []api.Arm {
+func (n Names) arms(l []api.Arm, kind int) []api.Arm {
 	all := make([]api.Arm, len(l))
 	for i, arm := range l {
-		all[i] = api.Arm{E: n.all(arm.E, api.KBool), Body: n.statements(arm.Body)}
+		all[i] = api.Arm{E: n.all(arm.E, api.KBool), Body: n.Statements(arm.Body)}
 		for _, bounds := range arm.Labels {
 			pair := [2]api.Expr{n.Elab(bounds[0], kind), n.Elab(bounds[1], kind)}
 			all[i].Labels = append(all[i].Labels, pair)
@@ -56,7 +50,7 @@ func (n names) arms(l []api.Arm, kind int) []api.Arm {
 	return all
 }
 
-func (n names) all(l []api.Expr, want int) []api.Expr {
+func (n Names) all(l []api.Expr, want int) []api.Expr {
 	all := make([]api.Expr, len(l))
 	for i, e := range l {
 		all[i] = n.Elab(e, want)

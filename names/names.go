@@ -1,4 +1,7 @@
-package reckon
+// Package names: what a checked program's names come to: the kinds of its
+// expressions and statements, and its cells. What a program means, and its code,
+// go by these alike.
+package names
 
 import (
 	"slices"
@@ -15,8 +18,8 @@ type Names struct {
 	structs map[string]int
 }
 
-// NamesOf finds them, once for all expressions of a program.
-func NamesOf(p api.Prog) Names {
+// Of finds them, once for all expressions of a program.
+func Of(p api.Prog) Names {
 	n := Names{p: p, vars: map[string]int{}, structs: map[string]int{}}
 	for i, v := range p.Vars {
 		n.vars[v.Name] = i
@@ -27,10 +30,13 @@ func NamesOf(p api.Prog) Names {
 	return n
 }
 
+// Block tells the block that a variable of that name is.
+func (n Names) Block(name string) string { return n.p.Vars[n.vars[name]].T.Name }
+
 // Args tells the arguments of a block's call elaborated, each asked for its
 // pin's kind.
 func (n Names) Args(name string, l []api.Arg) []api.Arg {
-	block := n.p.Vars[n.vars[name]].T.Name
+	block := n.Block(name)
 	all := make([]api.Arg, len(l))
 	for i, a := range l {
 		all[i] = api.Arg{Name: a.Name, E: n.Elab(a.E, types.Pin(block, a.Name))}
