@@ -4,6 +4,7 @@ import (
 	"slices"
 
 	"rung/api"
+	"rung/emit"
 )
 
 // few is how many spans are asked for one by one: more are halved.
@@ -14,7 +15,7 @@ const few = 8
 type choice struct {
 	*lowering
 	kind int
-	arms [][]landing // of each arm the jumps to it; the last one is ELSE's
+	arms [][]emit.Landing // of each arm the jumps to it; the last one is ELSE's
 }
 
 func (l *lowering) caseStatement(s api.Stmt) {
@@ -22,19 +23,19 @@ func (l *lowering) caseStatement(s api.Stmt) {
 	if len(arms[len(arms)-1].Labels) > 0 {
 		arms = append(slices.Clone(arms), api.Arm{}) // ELSE, without statements
 	}
-	l.number(s.E[0])
-	c := choice{lowering: l, kind: s.E[0].Kind, arms: make([][]landing, len(arms))}
+	l.Number(s.E[0])
+	c := choice{lowering: l, kind: s.E[0].Kind, arms: make([][]emit.Landing, len(arms))}
 	c.choose(spansOf(arms))
-	var ends []landing
+	var ends []emit.Landing
 	for i, arm := range arms {
-		all(c.arms[i])(l.here())
-		l.drop()
+		all(c.arms[i])(l.Here())
+		l.Drop()
 		l.statements(arm.Body)
 		if i < len(arms)-1 {
-			ends = append(ends, l.jump(api.OpJump))
+			ends = append(ends, l.Jump(api.OpJump))
 		}
 	}
-	all(ends)(l.here())
+	all(ends)(l.Here())
 }
 
 // choose adds the jump to the arm that is of the number's span, ELSE's without
@@ -43,9 +44,9 @@ func (c *choice) choose(spans []span) {
 	if len(spans) > few {
 		half := len(spans) / 2
 		c.compare(api.ExLt, spans[half].low)
-		upper := c.jump(api.OpZero)
+		upper := c.Jump(api.OpZero)
 		c.choose(spans[:half])
-		upper(c.here())
+		upper(c.Here())
 		c.choose(spans[half:])
 		return
 	}
@@ -63,18 +64,18 @@ func (c *choice) ask(s span) {
 		return
 	}
 	c.compare(api.ExGe, s.low)
-	below := c.jump(api.OpZero)
+	below := c.Jump(api.OpZero)
 	c.compare(api.ExLe, s.high)
 	c.take(s.arm, api.OpOther)
-	below(c.here())
+	below(c.Here())
 }
 
 // compare adds how the number, which stays, stands to n.
 func (c *choice) compare(op int, n int64) {
-	c.dup()
-	c.push(c.kind, n)
-	c.apply(c.kind, op)
+	c.Dup()
+	c.Push(c.kind, n)
+	c.Apply(c.kind, op)
 }
 
 // take adds a jump to an arm.
-func (c *choice) take(arm, op int) { c.arms[arm] = append(c.arms[arm], c.jump(op)) }
+func (c *choice) take(arm, op int) { c.arms[arm] = append(c.arms[arm], c.Jump(op)) }

@@ -2,12 +2,12 @@ package lowst
 
 import (
 	"rung/api"
-	"rung/types"
+	"rung/emit"
 )
 
 func (l *lowering) statements(list []api.Stmt) {
 	for _, s := range list {
-		l.step()
+		l.Step()
 		l.statement(s)
 	}
 }
@@ -27,31 +27,30 @@ func (l *lowering) statement(s api.Stmt) {
 	case api.StRepeat:
 		l.repeatLoop(s)
 	case api.StExit:
-		l.exits = append(l.exits, l.jump(api.OpJump))
+		l.exits = append(l.exits, l.Jump(api.OpJump))
 	case api.StReturn:
-		l.add(api.Ins{Op: api.OpEnd})
+		l.End()
 	case api.StCall:
-		l.blockCall(s)
+		l.BlockCall(s.V.Name, s.Args)
 	}
 }
 
 // assign reckons the target's index, and asks for it, ahead of what is assigned.
 func (l *lowering) assign(s api.Stmt) {
-	of := l.cells.Of(s.V.Name, s.V.Field)
-	cell, ok := fixed(of, s.V)
+	cell, ok := l.Fixed(s.V)
 	if ok {
-		l.number(s.E[0])
-		l.store(cell)
+		l.Number(s.E[0])
+		l.Store(cell)
 		return
 	}
-	l.number(s.V.L[0])
-	l.element(api.OpCheckAt, of)
-	l.number(s.E[0])
-	l.element(api.OpStoreAt, of)
+	l.Number(s.V.L[0])
+	l.Element(api.OpCheckAt, s.V)
+	l.Number(s.E[0])
+	l.Element(api.OpStoreAt, s.V)
 }
 
 func (l *lowering) ifStatement(s api.Stmt) {
-	var ends []landing
+	var ends []emit.Landing
 	for i, arm := range s.Arms {
 		past := nowhere
 		if len(arm.E) > 0 { // not ELSE
@@ -59,34 +58,34 @@ func (l *lowering) ifStatement(s api.Stmt) {
 		}
 		l.statements(arm.Body)
 		if i < len(s.Arms)-1 {
-			ends = append(ends, l.jump(api.OpJump))
+			ends = append(ends, l.Jump(api.OpJump))
 		}
-		past(l.here())
+		past(l.Here())
 	}
-	all(ends)(l.here())
+	all(ends)(l.Here())
 }
 
 // jumpIf adds a jump that is done if a condition is so. One that is a literal
 // needn't be asked: the jump is always done, or it is left out.
-func (l *lowering) jumpIf(e api.Expr, so bool) landing {
+func (l *lowering) jumpIf(e api.Expr, so bool) emit.Landing {
 	for e.Op == api.ExNot {
 		e, so = e.L[0], !so
 	}
 	switch {
 	case e.Op == api.ExLit && (e.N != 0) == so:
-		return l.jump(api.OpJump)
+		return l.Jump(api.OpJump)
 	case e.Op == api.ExLit:
 		return nowhere
 	}
-	l.number(e)
+	l.Number(e)
 	if so {
-		return l.jump(api.OpOther)
+		return l.Jump(api.OpOther)
 	}
-	return l.jump(api.OpZero)
+	return l.Jump(api.OpZero)
 }
 
 // body adds a loop's statements; it tells the landing of the EXITs among them.
-func (l *lowering) body(list []api.Stmt) landing {
+func (l *lowering) body(list []api.Stmt) emit.Landing {
 	outer := l.exits
 	l.exits = nil
 	l.statements(list)
@@ -98,32 +97,19 @@ func (l *lowering) body(list []api.Stmt) landing {
 // A loop's test stands behind its statements: a jump less is done each time.
 
 func (l *lowering) whileLoop(s api.Stmt) {
-	test := l.jump(api.OpJump)
-	begin := l.here()
+	test := l.Jump(api.OpJump)
+	begin := l.Here()
 	exits := l.body(s.Body)
-	test(l.here())
-	l.step()
+	test(l.Here())
+	l.Step()
 	l.jumpIf(s.E[0], true)(begin)
-	exits(l.here())
+	exits(l.Here())
 }
 
 func (l *lowering) repeatLoop(s api.Stmt) {
-	begin := l.here()
+	begin := l.Here()
 	exits := l.body(s.Body)
-	l.step()
+	l.Step()
 	l.jumpIf(s.E[0], false)(begin)
-	exits(l.here())
-}
-
-// blockCall assigns each argument as it is reckoned: those behind it may ask for
-// the pin.
-func (l *lowering) blockCall(s api.Stmt) {
-	name := s.V.Name
-	for _, a := range s.Args {
-		l.number(a.E)
-		l.store(l.cells.Of(name, a.Name).First)
-	}
-	block := l.names.Block(name)
-	inputs, _ := types.Pins(block)
-	l.add(api.Ins{Op: api.OpCall, A: l.cells.Of(name, inputs[0]).First, Name: block})
+	exits(l.Here())
 }
