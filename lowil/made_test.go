@@ -283,7 +283,7 @@ func TestMadeUp(t *testing.T) {
 	w := &walker{Rand: rand.New(rand.NewSource(23))}
 	ends, used := map[int]int{}, map[string]int{}
 	taken, long := 0, 0
-	for range 9000 {
+	for range 5000 {
 		text := w.text(2 + w.Intn(40))
 		p, err := il.Parse(text)
 		if err != nil {
@@ -320,7 +320,7 @@ func TestMadeUp(t *testing.T) {
 			t.Errorf("only %d times %s", used[op], op)
 		}
 	}
-	if taken < 4000 || long < 2000 {
+	if taken < 3800 || long < 2000 {
 		t.Errorf("only %d programs were taken, %d scans were long", taken, long)
 	}
 }
